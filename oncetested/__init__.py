@@ -1,0 +1,1 @@
+"""Oncetested: changes of some parts, settled by one test."""

@@ -1,0 +1,127 @@
+"""[1], [2] for every function: lists for sequences, arguments by name, tuples that come back, nothing that changes."""
+
+import copy
+import importlib
+import unittest
+
+from oncetested.boards import Board
+from oncetested.groups import Group
+from oncetested.pairs import Pairs
+from support import as_lists, cycle_rows, has_lists, odd_board, permutation_rows
+
+ODD = odd_board()
+NO = ((0, 0), (2, 2), (2,), (0,))
+SHAPE = ("line", (0, ("free", (1, 3, 4)), 2))
+SIX = Group(permutation_rows([(1, 2, 0), (1, 0, 2)]))
+PAIRS = Pairs(SIX, 3, 3, ((0, 0, 1), (1, 0, 2), (1, 1, 3), (0, 1, 5), (0, 0, 2)))
+
+# The module, the function, its arguments by name, and those of them that may be lists.
+CALLS = [
+    ("boards", "all_settings", {"sizes": (2, 3)}, "sizes"),
+    ("boards", "setting_number", {"sizes": (2, 3), "setting": (1, 1)}, "sizes setting"),
+    ("boards", "nth_setting", {"sizes": (2, 3), "number": 4}, "sizes"),
+    ("boards", "is_setting", {"sizes": (2, 3), "value": (1, 2)}, "sizes"),
+    ("boards", "need_lot", {"board": ODD, "value": (0, 2)}, "value"),
+    ("boards", "rest_of", {"board": ODD, "lot": (0, 2)}, "lot"),
+    ("boards", "lot_contents", {"board": ODD, "lot": (0, 2)}, "lot"),
+    ("boards", "joined_setting", {"board": ODD, "lot": (0, 2), "inside": (1, 2), "outside": (3,)}, "lot inside outside"),
+    ("boards", "parted_setting", {"board": ODD, "lot": (0, 2), "setting": (1, 2, 3)}, "lot setting"),
+    ("boards", "lot_marks", {"board": ODD, "lot": (0, 2)}, "lot"),
+    ("fair", "fair_fault", {"board": Board(2, [2, 2], [0, 1, 1, 1])}, ""),
+    ("fair", "is_fair", {"board": ODD}, ""),
+    ("fair", "need_fair", {"board": ODD}, ""),
+    ("fair", "fault_holds", {"board": ODD, "value": ("twice", 0, (0, 0, 0), 1)}, ""),
+    ("looks", "change_stays", {"board": ODD, "lot": (0, 1), "u": (0, 0), "v": (2, 2), "w": (2,)}, "lot u v w"),
+    ("looks", "stay_places", {"board": ODD, "lot": (0, 1), "u": (0, 0), "v": (2, 2)}, "lot u v"),
+    ("looks", "no_holds", {"board": ODD, "lot": (0, 1), "value": NO}, "lot"),
+    ("looks", "differing_places", {"one": (0, 1), "other": (0, 2)}, "one other"),
+    ("looks", "mixed_contents", {"u": (0, 1), "v": (0, 2)}, "u v"),
+    ("looks", "near_no", {"board": ODD, "lot": (0, 1), "no": NO}, "lot"),
+    ("looks", "smaller_no", {"board": ODD, "lot": (0, 1), "no": NO}, "lot"),
+    ("looks", "cut_no", {"board": ODD, "lot": (0, 1), "no": NO}, "lot"),
+    ("looks", "is_full", {"board": ODD, "part": 2}, ""),
+    ("looks", "pivot_no", {"board": ODD, "lot": (0, 1), "no": NO, "part": 0}, "lot"),
+    ("looks", "stubborn_board", {"many": 3}, ""),
+    ("shapes", "need_shape", {"value": SHAPE}, ""),
+    ("shapes", "is_shape", {"value": SHAPE}, ""),
+    ("shapes", "parts_of", {"shape": SHAPE}, ""),
+    ("shapes", "strong_lots", {"shape": SHAPE}, ""),
+    ("shapes", "knot_there", {"shape": SHAPE, "lot": (1, 3, 4)}, "lot"),
+    ("shapes", "is_inner", {"shape": SHAPE, "lot": (1, 3)}, "lot"),
+    ("shapes", "lot_place", {"shape": SHAPE, "lot": (1, 3)}, "lot"),
+    ("shapes", "inner_hull", {"shape": SHAPE, "lot": (0, 3)}, "lot"),
+    ("shapes", "crossing_lot", {"shape": SHAPE, "lot": (1, 3)}, "lot"),
+    ("shapes", "count_lots", {"shape": SHAPE}, ""),
+    ("shapes", "nth_lot", {"shape": SHAPE, "number": 5}, ""),
+    ("shapes", "lot_number", {"shape": SHAPE, "lot": (1, 3)}, "lot"),
+    ("groups", "element_order", {"group": SIX, "x": 3}, ""),
+    ("groups", "element_orders", {"group": SIX}, ""),
+    ("groups", "order_profile", {"group": SIX}, ""),
+    ("groups", "is_commutative", {"group": SIX}, ""),
+    ("groups", "made_part", {"group": SIX, "lot": (4, 1)}, "lot"),
+    ("groups", "fewest_makers", {"group": SIX}, ""),
+    ("groups", "centralizer_of", {"group": SIX, "lot": (4, 4)}, "lot"),
+    ("groups", "centre_of", {"group": SIX}, ""),
+    ("groups", "parting_makers", {"group": SIX}, ""),
+    ("groups", "element_classes", {"group": SIX}, ""),
+    ("groups", "retest_ratio", {"group": SIX}, ""),
+    ("groups", "group_matches", {"one": SIX, "other": SIX}, ""),
+    ("groups", "group_match", {"one": SIX, "other": SIX}, ""),
+    ("groups", "turned_group", {"group": SIX}, ""),
+    ("groups", "named_group", {"group": SIX, "row": (1, 0, 2, 5, 4, 3)}, "row"),
+    ("groups", "extended_group", {"group": Group(cycle_rows(3)), "turn": (0, 2, 1), "many": 2, "extra": 0}, "turn"),
+    ("pairs", "road_mark", {"pairs": PAIRS, "road": (0, 1, 2)}, "road"),
+    ("pairs", "case_road_holds", {"pairs": PAIRS, "a": 0, "b": 1, "value": (0, 1, 2)}, ""),
+    ("pairs", "case_ring_holds", {"pairs": PAIRS, "value": (0, 4)}, ""),
+    ("pairs", "pairs_fit", {"pairs": PAIRS, "value": ((0, 0, 0), (0, 0, 0))}, ""),
+]
+
+
+def told(value):
+    """A value that can be compared: boards and groups by their own ==."""
+    return (type(value), value)
+
+
+class TestBasics(unittest.TestCase):
+    def each(self):
+        for module, name, arguments, lists in CALLS:
+            function = getattr(importlib.import_module("oncetested." + module), name)
+            with self.subTest(name):
+                yield function, arguments, lists.split()
+
+    def test_by_position_and_by_names(self):
+        for function, arguments, _ in self.each():
+            result = function(*arguments.values())
+            self.assertEqual(told(function(**arguments)), told(result))
+            backwards = dict(reversed(list(arguments.items())))
+            self.assertEqual(told(function(**backwards)), told(result))
+
+    def test_lists_for_sequences(self):
+        for function, arguments, lists in self.each():
+            result = function(**arguments)
+            listed = {name: as_lists(value) if name in lists else value for name, value in arguments.items()}
+            kept = {name: copy.deepcopy(listed[name]) for name in lists}
+            self.assertEqual(told(function(**listed)), told(result))
+            self.assertEqual({name: listed[name] for name in lists}, kept)
+
+    def test_tuples_come_back(self):
+        for function, arguments, lists in self.each():
+            listed = {name: as_lists(value) if name in lists else value for name, value in arguments.items()}
+            self.assertFalse(has_lists(function(**listed)))
+
+    def test_whether_is_true_or_false(self):
+        for function, arguments, _ in self.each():
+            if function.__name__.startswith("is_") or function.__name__.endswith(("_holds", "_stays", "_fit")):
+                self.assertIsInstance(function(**arguments), bool)
+
+    def test_every_function_is_called(self):
+        modules = {module for module, _, _, _ in CALLS}
+        called = {(module, name) for module, name, _, _ in CALLS}
+        from test_interface import FUNCTIONS
+        listed = {(module, signature.partition("(")[0]) for module, signatures in FUNCTIONS.items() for signature in signatures}
+        self.assertEqual(listed - called, {("boards", "need_board")})
+        self.assertEqual(modules, set(FUNCTIONS))
+
+
+if __name__ == "__main__":
+    unittest.main()
