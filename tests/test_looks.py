@@ -277,6 +277,29 @@ class TestFullParts(unittest.TestCase):
                         count += 1
         self.assertGreater(count, 100)
 
+    def test_lots_of_three_parts(self):
+        rng = seeded(14)
+        far = 0
+        for _ in range(12):
+            board = fair_board(rng, 4, 4)
+            if rng.random() < 0.3:
+                sizes = (4, 2, 4, 4)
+                board = Board(4, sizes, [board(setting) for setting in settings_of(sizes)])
+            for lot in itertools.combinations(range(4), 3):
+                inner = settings_of(pick(board.sizes, lot))
+                outer = settings_of(pick(board.sizes, rest(4, lot)))
+                for _ in range(150):
+                    u, v = sorted(rng.sample(inner, 2))
+                    no = (u, v, *rng.sample(outer, 2))
+                    if not no_holds(board, lot, no):
+                        continue
+                    for part in lot:
+                        if is_full(board, part):
+                            told = pivot_no(board, list(lot), no, part)
+                            self.assertEqual(told, self.pivoted(board, lot, no, part))
+                            far += told != near_no(board, lot, no)
+        self.assertGreater(far, 100)
+
     def test_refused_parts(self):
         board, no = odd_board(), ((0, 0), (2, 2), (2,), (0,))
         for value in any_values():
