@@ -249,6 +249,65 @@ class TestPapers(unittest.TestCase):
         self.assertEqual((odd.board_count(), odd.sure_mark((1, 0, 0))), (1, 2))
 
 
+class TestShares(unittest.TestCase):
+    """Cases whose counts make those of other settings twice, but not once."""
+
+    def tables(self, sums):
+        """The boards of all readings with the unit for the contents 0 of all parts but the first one."""
+        found = []
+        for row in itertools.product(range(sums.group.size), repeat=1 + len(sums.sizes)):
+            readings = [(row[0], sums.group.rows[row[0]][row[1]])] + [(sums.group.unit, x) for x in row[2:]]
+            if all(mark_by(sums, readings, setting) == mark for setting, mark in sums.cases):
+                found.append(readings)
+        return found
+
+    def check(self, sums):
+        fitting = self.tables(sums)
+        self.assertEqual(sums.board_count(), len(fitting))
+        self.assertEqual(sums.clash_paper() is None, bool(fitting))
+        if not fitting:
+            self.assertIs(clash_holds(sums, sums.clash_paper()), True)
+            return False
+        self.assertIs(readings_hold(sums, sums.some_readings()), True)
+        for setting in settings_of(sums.sizes):
+            marks = {mark_by(sums, readings, setting) for readings in fitting}
+            self.assertEqual(sums.sure_mark(setting), min(marks) if len(marks) == 1 else None)
+            if len(marks) == 1:
+                self.assertIs(numbers_hold(sums, setting, sums.sure_numbers(setting)), True)
+            else:
+                self.assertIs(turns_hold(sums, setting, sums.open_turns(setting)), True)
+        return True
+
+    def test_by_all_tables(self):
+        rng = seeded(6)
+        seen = {}
+        twice = [(0, 0, 0, 0), (1, 1, 0, 0), (1, 0, 1, 1), (0, 1, 1, 1)]
+        for _ in range(60):
+            rows = rng.choice([cycle_rows(4), cycle_rows(6), paired_rows(cycle_rows(2), cycle_rows(2))])
+            group = mixed_group(rng, rows)
+            readings = [[rng.randrange(group.size) for _ in range(2)] for _ in range(4)]
+            told = twice + [rng.choice(settings_of((2,) * 4)) for _ in range(rng.randint(0, 2))]
+            rng.shuffle(told)
+            cases = [(setting, group.product([row[content] for row, content in zip(readings, setting)])) for setting in told]
+            if rng.random() < 0.4:
+                cases[-1] = (cases[-1][0], rng.randrange(group.size))
+            seen[self.check(Sums(group, (2,) * 4, cases))] = True
+        self.assertEqual(len(seen), 2)
+
+    def test_greater_groups(self):
+        group = Group(cycle_rows(9))
+        told = [(0, 0, 0), (1, 1, 0), (1, 0, 1), (0, 1, 1)]
+        for marks in ((0, 2, 2, 2), (0, 3, 3, 3), (1, 1, 2, 4)):
+            self.check(Sums(group, (2,) * 3, list(zip(told, marks))))
+        rng = seeded(7)
+        for _ in range(20):
+            told = [tuple(rng.randrange(2) for _ in range(4)) for _ in range(6)]
+            group = mixed_group(rng, cycle_rows(8) if rng.random() < 0.3 else cycle_rows(4))
+            sizes = (2,) * 3 if group.size == 8 else (2,) * 4
+            cases = [(setting[:len(sizes)], rng.randrange(group.size) if rng.random() < 0.1 else group.unit) for setting in told]
+            self.check(Sums(group, sizes, cases))
+
+
 class TestFurther(unittest.TestCase):
     def all_sure(self, sums, further):
         wider = Sums(sums.group, sums.sizes, [(case[0], sums.group.unit) for case in sums.cases] + [(setting, sums.group.unit) for setting in further])
