@@ -38,6 +38,14 @@ def is_setting(sizes, value):
     return isinstance(value, tuple) and wrong_place(sizes, value) is None
 
 
+def need_setting(sizes, value):
+    """Any value that is a setting, as a tuple, else an error."""
+    at = wrong_place(sizes, value)
+    if at is not None:
+        raise InvalidSetting(at)
+    return tuple(value)
+
+
 def wrong_size(value):
     """The first place of any value that is no size, -1 for no sequence of 1 to 8, or None."""
     if not is_sequence(value) or not 1 <= len(value) <= MOST_PARTS:
@@ -82,10 +90,7 @@ class Board:
         return len(self.sizes)
 
     def __call__(self, setting):
-        at = wrong_place(self.sizes, setting)
-        if at is not None:
-            raise InvalidSetting(at)
-        return self.marks[setting_number(self.sizes, setting)]
+        return self.marks[setting_number(self.sizes, need_setting(self.sizes, setting))]
 
     def text(self):
         """The board as rows of text."""

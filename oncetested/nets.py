@@ -1,7 +1,7 @@
 """Nets: locks made of small tables, never laid out."""
 
-from oncetested.boards import MOST_PARTS, MOST_SETTINGS, Board, all_settings, steps_of
-from oncetested.errors import InvalidNet, InvalidSetting, InvalidSize, InvalidText, Refused
+from oncetested.boards import MOST_PARTS, MOST_SETTINGS, Board, all_settings, need_setting, steps_of
+from oncetested.errors import InvalidNet, InvalidSize, InvalidText, Refused
 from oncetested.values import is_between, is_figures, is_sequence, power_of, read_number, wrong_place
 
 NET_PARTS = 200
@@ -42,10 +42,7 @@ class Net:
         return len(self.sizes)
 
     def __call__(self, setting):
-        at = wrong_place(self.sizes, setting)
-        if at is not None:
-            raise InvalidSetting(at)
-        return net_marks(self, setting)[-1]
+        return net_marks(self, need_setting(self.sizes, setting))[-1]
 
     def text(self):
         """The net as rows of text."""

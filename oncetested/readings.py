@@ -37,11 +37,11 @@ def reading_holds(board, lot, value):
     return pair is not None and same_value(value, pair)
 
 
-def near_numbers(sizes):
-    """For each setting the numbers of those that differ from it in one place, ascending."""
+def near_numbers(sizes, places):
+    """For each setting the numbers of those that differ from it in one of some places alone, ascending."""
     near = []
     for setting in all_settings(sizes):
-        others = [replaced(setting, at, other) for at, size in enumerate(sizes) for other in range(size)]
+        others = [replaced(setting, at, other) for at in places for other in range(sizes[at])]
         near.append([setting_number(sizes, other) for other in sorted(others) if other != setting])
     return near
 
@@ -56,14 +56,13 @@ def first_step(one, other, near):
     return None
 
 
-def least_no(board, lot):
-    """The no that changes the fewest parts, of these the least with one other part, or None."""
-    lot = need_lot(board, lot)
+def first_no(board, lot, parts):
+    """The no that changes the fewest parts, of these the least with just one of some other parts unlike, or None."""
     rest = rest_of(board, lot)
     rows = lot_marks(board, lot)
     inner = lot_contents(board, lot)
     outer = lot_contents(board, rest)
-    near = near_numbers(lot_sizes(board, rest))
+    near = near_numbers(lot_sizes(board, rest), [rest.index(part) for part in parts])
     best = None
     fewest = len(lot) + 1
     for i, u in enumerate(inner):
@@ -75,6 +74,12 @@ def least_no(board, lot):
                     best = (u, inner[j], outer[found[0]], outer[found[1]])
                     fewest = changes
     return best
+
+
+def least_no(board, lot):
+    """The no that changes the fewest parts, of these the least with one other part, or None."""
+    lot = need_lot(board, lot)
+    return first_no(board, lot, rest_of(board, lot))
 
 
 def lot_paper(board, lot):

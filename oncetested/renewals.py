@@ -1,11 +1,11 @@
 """Renewals: rows that lead the contents of a lot and keep the mark in every setting."""
 
-from oncetested.boards import all_settings, is_setting, lot_contents, lot_step, need_lot, nth_setting
-from oncetested.errors import InvalidRenewal, InvalidSetting, InvalidSize
+from oncetested.boards import all_settings, is_setting, lot_contents, lot_step, need_lot, need_setting, nth_setting
+from oncetested.errors import InvalidRenewal, InvalidSize
 from oncetested.fair import need_fair
 from oncetested.groups import MOST_ELEMENTS, Group
 from oncetested.looks import need_contents, replaced
-from oncetested.values import is_permutation, is_sequence, wrong_place
+from oncetested.values import is_permutation, is_sequence
 
 
 def need_fair_lot(board, lot):
@@ -53,10 +53,7 @@ def led_setting(board, lot, rows, setting):
     """The setting to which rows of a lot lead this one (any values)."""
     lot = need_fair_lot(board, lot)
     need_rows(board, lot, rows)
-    at = wrong_place(board.sizes, setting)
-    if at is not None:
-        raise InvalidSetting(at)
-    return led_parts(lot, rows, setting)
+    return led_parts(lot, rows, need_setting(board.sizes, setting))
 
 
 def first_broken(board, lot, rows):

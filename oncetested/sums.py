@@ -2,8 +2,8 @@
 
 from math import gcd
 
-from oncetested.boards import all_settings, is_setting, wrong_size
-from oncetested.errors import InvalidBoard, InvalidCases, InvalidSetting, InvalidTable, Refused
+from oncetested.boards import all_settings, is_setting, need_setting, wrong_size
+from oncetested.errors import InvalidBoard, InvalidCases, InvalidTable, Refused
 from oncetested.groups import Group, element_orders, is_commutative
 from oncetested.values import is_below, is_between, is_sequence, product_of, wrong_place
 
@@ -243,9 +243,7 @@ def readings_by(sums, parts):
 
 def need_fit(sums, setting):
     """The errors of a setting (any value), and one if no readings fit."""
-    at = wrong_place(sums.sizes, setting)
-    if at is not None:
-        raise InvalidSetting(at)
+    need_setting(sums.sizes, setting)
     if sums.some_readings() is None:
         raise Refused(-1)
 

@@ -75,3 +75,18 @@ def product_of(numbers):
 def power_of(number, many):
     """The product of so many times a number."""
     return product_of([number] * many)
+
+
+def lot_bits(lot):
+    """A lot as a number: the bit of each of its parts is 1."""
+    return sum([1 << part for part in lot])
+
+
+def bits_lot(bits):
+    """The lot of a number."""
+    return tuple([part for part in range(bits.bit_length()) if bits >> part & 1])
+
+
+def count_bits(bits):
+    """How many bits of a number are 1."""
+    return f"{bits:b}".count("1")

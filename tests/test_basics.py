@@ -5,6 +5,7 @@ import importlib
 import unittest
 
 from oncetested.boards import Board
+from oncetested.forms import board_form
 from oncetested.groups import Group
 from oncetested.nets import Net
 from oncetested.pairs import Pairs
@@ -24,6 +25,8 @@ FIVE = latin(seeded(2), 5)
 BOTH = tuple(a ^ b for a in range(4) for b in range(4))
 NET = Net(4, 3, [(BOTH, (0, 1)), ((1, 0, 3, 2), (3,)), (BOTH, (4, 2))])
 OTHER_NET = Net(4, 3, [(BOTH, (0, 1)), ((0, 1, 2, 3), (3,)), (BOTH, (4, 2))])
+FORM = board_form(ODD)
+TOLD = {"many": 4, "lots": ((0, 1), (1, 2))}
 SUMS = Sums(Group(cycle_rows(3)), (2, 2), (((0, 0), 1), ((1, 0), 2), ((0, 1), 0)))
 
 # The module, the function, its arguments by name, and those of them that may be lists.
@@ -151,6 +154,53 @@ CALLS = [
     ("sums", "readings_hold", {"sums": SUMS, "value": ((0, 1), (1, 0))}, ""),
     ("sums", "turns_hold", {"sums": SUMS, "setting": (1, 1), "value": ((0, 1), (1, 0))}, ""),
     ("sums", "clash_holds", {"sums": SUMS, "value": (3, (1, 1, 1))}, ""),
+    ("trees", "common_shape", {"one": SHAPE, "other": ("line", (0, 1, 2, 3, 4))}, ""),
+    ("trees", "three_nos", {"board": ODD}, ""),
+    ("trees", "shape_by_nos", {"many": 3, "nos": (((0, 2), 1),)}, ""),
+    ("trees", "shape_of", {"board": ODD}, ""),
+    ("trees", "swung_board", {"board": ODD, "part": 1}, ""),
+    ("trees", "swung_shape", {"shape": SHAPE, "part": 3}, ""),
+    ("tries", "content_kinds", LOT, "lot"),
+    ("tries", "counting_parts", LOT, "lot"),
+    ("tries", "counting_paper", LOT | {"part": 2}, "lot"),
+    ("tries", "counting_holds", LOT | {"part": 2, "value": NO}, "lot"),
+    ("tries", "all_tries", LOT, "lot"),
+    ("tries", "noticed_tries", LOT | {"one": (0, 0), "other": (2, 2)}, "lot one other"),
+    ("tries", "unnoticed_change", LOT | {"tries": ((2,), (3,), (2,))}, "lot tries"),
+    ("arrows", "arrow_no", {"board": ODD, "part": 0, "pivot": 1, "outside": 2}, ""),
+    ("arrows", "arrow_rows", {"board": ODD, "pivot": 1}, ""),
+    ("arrows", "reached_lot", {"rows": ((2,), (), ()), "lot": (0, 1)}, "rows lot"),
+    ("enough", "greatest_passed", LOT, "lot"),
+    ("enough", "least_enough", LOT, "lot"),
+    ("enough", "fewest_tries", LOT, "lot"),
+    ("enough", "fewer_changes", LOT, "lot"),
+    ("enough", "fewer_holds", LOT | {"many": 1, "value": (((0, 0), (0, 1)),)}, "lot"),
+    ("enough", "surely_enough", LOT, "lot"),
+    ("facts", "closed_shape", TOLD, "lots"),
+    ("facts", "fact_paper", TOLD | {"lot": (0, 1, 2)}, "lots lot"),
+    ("facts", "fact_holds", TOLD | {"lot": (1,), "value": (("told", (0, 1)), ("told", (1, 2)), ("meet", 0, 1))}, "lots lot"),
+    ("facts", "fewest_facts", {"shape": SHAPE}, ""),
+    ("facts", "how_many_shapes", {"many": 6}, ""),
+    ("facts", "shape_board", {"shape": ("line", (0, 2, 1))}, ""),
+    ("folds", "folded_lots", LOT, "lot"),
+    ("folds", "folded_board", LOT, "lot"),
+    ("folds", "folded_contents", LOT | {"contents": (1, 3)}, "lot contents"),
+    ("folds", "net_fold", {"net": NET, "lot": (0, 2)}, "lot"),
+    ("forms", "form_marks", {"form": FORM, "setting": (1, 2, 3)}, "setting"),
+    ("forms", "form_lots", {"form": FORM}, ""),
+    ("forms", "form_shape", {"form": FORM}, ""),
+    ("forms", "needed_content", {"form": FORM, "setting": (1, 2, 3), "part": 1, "mark": 2}, "setting"),
+    ("forms", "board_form", {"board": FIT}, ""),
+    ("forms", "form_board", {"form": FORM}, ""),
+    ("gaps", "gap_mark", {"group": SIX, "stretches": (1, 2), "gaps": (3,)}, "stretches gaps"),
+    ("gaps", "gap_pass", {"group": SIX, "one": (1, 2), "other": (1, 2)}, "one other"),
+    ("gaps", "gap_kinds", {"group": SIX, "many": 3}, ""),
+    ("gaps", "gap_unnoticed", {"group": SIX, "many": 2, "tries": ((1, 2), (0, 3))}, "tries"),
+    ("gaps", "gap_blind", {"group": SIX, "gaps": (1, 2)}, "gaps"),
+    ("gaps", "gap_bounds", {"group": SIX, "many": 2}, ""),
+    ("gaps", "spread_tries", {"group": SIX, "many": 2}, ""),
+    ("gaps", "gap_most", {"group": SIX, "many": 2}, ""),
+    ("gaps", "gap_worst", {"group": SIX, "many": 2}, ""),
 ]
 
 

@@ -43,6 +43,22 @@ FUNCTIONS = {
                  "lot_renewals(board, lot)", "renewal_lots(board, lot)", "renewal_group(board, lot)"],
     "trades": ["exchange_lots(board, one, other)", "exchanged_board(board, one, other, settings)", "filled_marks(many, parts, marks)",
                "sum_board(many, base, rows)", "sum_paper(board)"],
+    "trees": ["common_shape(one, other)", "three_nos(board)", "shape_by_nos(many, nos)", "shape_of(board)", "swung_board(board, part)",
+              "swung_shape(shape, part)"],
+    "tries": ["content_kinds(board, lot)", "counting_parts(board, lot)", "counting_paper(board, lot, part)",
+              "counting_holds(board, lot, part, value)", "all_tries(board, lot)", "noticed_tries(board, lot, one, other)",
+              "unnoticed_change(board, lot, tries)"],
+    "arrows": ["arrow_no(board, part, pivot, outside)", "arrow_rows(board, pivot)", "reached_lot(rows, lot)"],
+    "enough": ["greatest_passed(board, lot)", "least_enough(board, lot)", "fewest_tries(board, lot)", "fewer_changes(board, lot)",
+               "fewer_holds(board, lot, many, value)", "surely_enough(board, lot)"],
+    "facts": ["closed_shape(many, lots)", "fact_paper(many, lots, lot)", "fact_holds(many, lots, lot, value)", "fewest_facts(shape)",
+              "how_many_shapes(many)", "shape_board(shape)"],
+    "folds": ["folded_lots(board, lot)", "folded_board(board, lot)", "folded_contents(board, lot, contents)", "net_fold(net, lot)"],
+    "forms": ["form_marks(form, setting)", "form_lots(form)", "form_shape(form)", "needed_content(form, setting, part, mark)",
+              "board_form(board)", "form_board(form)"],
+    "gaps": ["gap_mark(group, stretches, gaps)", "gap_pass(group, one, other)", "gap_kinds(group, many)",
+             "gap_unnoticed(group, many, tries)", "gap_blind(group, gaps)", "gap_bounds(group, many)", "spread_tries(group, many)",
+             "gap_most(group, many)", "gap_worst(group, many)"],
 }
 CLASSES = {
     ("boards", "Board"): ["__init__(self, many, sizes, marks)", "__call__(self, setting)", "text(self)", "read(text)",
@@ -56,6 +72,8 @@ CLASSES = {
                        "fewest_settings(self)"],
     ("nets", "Net"): ["__init__(self, many, parts, rows)", "__call__(self, setting)", "text(self)", "read(text)",
                       "__eq__(self, other)", "__len__(self)"],
+    ("forms", "Form"): ["__init__(self, many, names, knots)", "__call__(self, setting)", "text(self)", "read(text)",
+                        "__eq__(self, other)", "__len__(self)"],
 }
 
 

@@ -7,7 +7,7 @@ import unittest
 
 FOLDER = pathlib.Path(__file__).resolve().parent.parent / "oncetested"
 FILES = sorted(FOLDER.glob("*.py"))
-LIBRARY = {("math", "gcd"), ("math", "comb"), ("itertools", "combinations"), ("itertools", "permutations")}
+LIBRARY = {("math", "gcd"), ("math", "comb"), ("math", "factorial"), ("itertools", "combinations"), ("itertools", "permutations")}
 BUILTINS = set("len range enumerate zip min max sum abs sorted reversed int str bool list tuple dict set isinstance ord repr any "
                "all divmod Exception ValueError TypeError KeyError IndexError LookupError".split())
 METHODS = set("append clear copy count endswith extend find get index insert items join keys partition pop remove replace "
@@ -177,13 +177,18 @@ class TestLanguage(unittest.TestCase):
                 if plain or view:
                     loop = isinstance(parent, (ast.For, ast.comprehension)) and parent.iter is node
                     taken = isinstance(parent, ast.Call) and isinstance(parent.func, ast.Name) and parent.args[0] is node
-                    allowed = {"list", "tuple", "sorted", "sum", "any", "all", "enumerate", "combinations", "permutations"}
+                    allowed = {"list", "tuple", "dict", "sorted", "sum", "any", "all", "enumerate", "combinations", "permutations"}
                     if plain and node.func.id == "range":
                         allowed = allowed | {"reversed"}
                     self.assertTrue(loop or taken and parent.func.id in allowed, place)
                 if isinstance(node.func, ast.Name) and node.func.id == "set":
                     taken = isinstance(parent, ast.Call) and isinstance(parent.func, ast.Name) and parent.func.id in ("len", "sorted")
                     self.assertTrue(taken and not parent.keywords, place)
+
+    def test_stars(self):
+        for place, node in self.each():
+            if isinstance(node, ast.Starred):
+                self.assertIsInstance(node.value, (ast.Name, ast.Attribute), place)
 
     def test_classes(self):
         for name, tree in self.trees.items():

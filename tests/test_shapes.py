@@ -1,59 +1,14 @@
 """[23], [24], [25]: shapes, inner lots and their numbers."""
 
-import itertools
 import unittest
 
 from oncetested.errors import InvalidShape, InvalidSize
 from oncetested.shapes import (count_lots, crossing_lot, inner_hull, is_inner, is_shape, knot_there, lot_number, lot_place,
                                need_shape, nth_lot, parts_of, strong_lots)
+from shaping import knots, lot_of, places, random_shape
 from support import any_values, has_lists, lots_of, seeded, told_error
 
 SHAPE = ("line", (0, ("free", (1, 3, 4)), 2))
-
-
-def leaves(tree):
-    return [tree] if isinstance(tree, int) else [leaf for child in tree[1] for leaf in leaves(child)]
-
-
-def lot_of(*trees):
-    return tuple(sorted(leaf for tree in trees for leaf in leaves(tree)))
-
-
-def random_shape(rng, parts):
-    """A shape of some parts, its children in order."""
-    if len(parts) == 1:
-        return parts[0]
-    parts = rng.sample(parts, len(parts))
-    cuts = sorted(rng.sample(range(1, len(parts)), rng.randint(1, min(len(parts), 6) - 1)))
-    children = [random_shape(rng, parts[one:other]) for one, other in zip([0] + cuts, cuts + [len(parts)])]
-    kind = rng.choice(("bare", "line", "free")) if len(children) > 2 else "bare"
-    if kind != "line":
-        children = sorted(children, key=lambda child: min(leaves(child)))
-    elif min(leaves(children[0])) > min(leaves(children[-1])):
-        children = children[::-1]
-    return kind, tuple(children)
-
-
-def places(tree):
-    """The place of each inner lot of a shape: a list of pairs (lot, place)."""
-    if isinstance(tree, int):
-        return [((tree,), ((tree,), ()))]
-    kind, children = tree
-    found = [pair for child in children for pair in places(child)]
-    numbers = range(len(children))
-    if kind == "bare":
-        rows = [tuple(numbers)]
-    elif kind == "line":
-        rows = [tuple(range(one, other + 1)) for one in numbers for other in numbers if one < other]
-    else:
-        rows = [row for many in range(2, len(children) + 1) for row in itertools.combinations(numbers, many)]
-    return found + [(lot_of(*[children[number] for number in row]), (lot_of(tree), row)) for row in rows]
-
-
-def knots(tree):
-    if isinstance(tree, int):
-        return []
-    return [tree] + [knot for child in tree[1] for knot in knots(child)]
 
 
 class TestNeedShape(unittest.TestCase):
