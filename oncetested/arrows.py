@@ -32,6 +32,7 @@ def reached_lot(rows, lot):
     reached = list(lot)
     at = 0
     while at < len(reached):
-        reached.extend([part for part in rows[reached[at]] if part not in reached])
+        further = [part for part in rows[reached[at]] if part not in reached]
+        reached.extend(further)
         at += 1
     return tuple(sorted(reached))

@@ -7,7 +7,7 @@ from oncetested.errors import InvalidSize
 from oncetested.putting import turned_board
 from oncetested.shapes import is_leaf, parts_of
 from oncetested.trees import closed_tree, grown_lots, made_lots, overlap
-from oncetested.values import bits_lot, is_below, lot_bits, same_value
+from oncetested.values import bits_lot, is_below, lot_bits, same_value, union_of
 
 
 def closed_shape(many, lots):
@@ -188,13 +188,7 @@ def knot_facts(tree, above):
     choices = free_choices(many)
     if kind == "line":
         choices = [list(range(first, end)) for first, end in line_stretches(many)]
-    lots = []
-    for choice in choices:
-        parts = []
-        for child in choice:
-            parts.extend(parts_of(children[child]))
-        lots.append(tuple(sorted(parts)))
-    return lots
+    return [union_of([parts_of(children[child]) for child in choice]) for choice in choices]
 
 
 def facts_below(tree, above):

@@ -3,11 +3,11 @@
 from oncetested.boards import MOST_PARTS, MOST_SETTINGS, Board, all_settings, need_setting
 from oncetested.errors import InvalidForm, InvalidSize, InvalidTable, InvalidText
 from oncetested.fair import is_fair, need_fair
-from oncetested.groups import is_commutative, open_triple, turned_rows, Group
+from oncetested.groups import Group, is_commutative, open_triple, turned_rows
 from oncetested.shapes import FEWEST_CHILDREN, is_leaf
 from oncetested.trees import shape_of
 from oncetested.values import is_below, is_between, is_figures, is_permutation, is_sequence, power_of, read_number
-from oncetested.values import wrong_place
+from oncetested.values import union_of, wrong_place
 
 FORM_PARTS = 200
 
@@ -253,10 +253,7 @@ def form_lots(form):
     """The lot of the parts beneath each wire."""
     lots = [(part,) for part in range(len(form))]
     for _, wires, _ in form.knots:
-        parts = []
-        for wire in wires:
-            parts.extend(lots[wire])
-        lots.append(tuple(sorted(parts)))
+        lots.append(union_of([lots[wire] for wire in wires]))
     return tuple(lots)
 
 

@@ -2,7 +2,7 @@
 
 from oncetested.boards import MOST_PARTS, MOST_SETTINGS, Board, all_settings, need_setting, steps_of
 from oncetested.errors import InvalidNet, InvalidSize, InvalidText, Refused
-from oncetested.values import is_between, is_figures, is_sequence, power_of, read_number, wrong_place
+from oncetested.values import is_between, is_figures, is_sequence, power_of, read_number, union_of, wrong_place
 
 NET_PARTS = 200
 NET_ROWS = 400
@@ -135,10 +135,7 @@ def net_lots(net):
     """For each wire the lot of the parts beneath it."""
     lots = [(part,) for part in range(net.parts)]
     for _, wires in net.rows:
-        parts = []
-        for wire in wires:
-            parts.extend(lots[wire])
-        lots.append(tuple(sorted(parts)))
+        lots.append(union_of([lots[wire] for wire in wires]))
     return tuple(lots)
 
 

@@ -1,7 +1,7 @@
 """Shapes: trees of parts, their strong lots and their inner lots."""
 
 from oncetested.errors import InvalidShape, InvalidSize
-from oncetested.values import is_below, is_integer
+from oncetested.values import is_below, is_integer, union_of
 
 FEWEST_CHILDREN = {"bare": 2, "line": 3, "free": 3}
 
@@ -27,10 +27,7 @@ def parts_of(shape):
     """The lot of the parts of a shape, or of a leaf or knot in it."""
     if is_leaf(shape):
         return (shape,)
-    parts = []
-    for child in shape[1]:
-        parts.extend(parts_of(child))
-    return tuple(sorted(parts))
+    return union_of([parts_of(child) for child in shape[1]])
 
 
 def stands_right(tree):
@@ -119,10 +116,7 @@ def filled_children(knot, numbers):
 
 def joined_parts(knot, numbers):
     """The lot of the parts of some children of a knot."""
-    parts = []
-    for number in numbers:
-        parts.extend(parts_of(knot[1][number]))
-    return tuple(sorted(parts))
+    return union_of([parts_of(knot[1][number]) for number in numbers])
 
 
 def inner_hull(shape, lot):

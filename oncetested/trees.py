@@ -28,8 +28,9 @@ def hanging_lots(lots):
         row = [left.pop()]
         at = 0
         while at < len(row):
-            row.extend([lot for lot in left if overlap(lot, row[at])])
-            left = [lot for lot in left if not overlap(lot, row[at])]
+            here = row[at]
+            row.extend([lot for lot in left if overlap(lot, here)])
+            left = [lot for lot in left if not overlap(lot, here)]
             at += 1
         rows.append(row)
     return rows
@@ -85,7 +86,8 @@ def line_order(lots, children):
     ends = [child for child in children if len(lots_beside(child, children, grown)) == 1]
     order = ends[:1]
     while len(order) < len(children):
-        order.extend([child for child in lots_beside(order[-1], children, grown) if child not in order])
+        further = [child for child in lots_beside(order[-1], children, grown) if child not in order]
+        order.extend(further)
     return order
 
 

@@ -77,6 +77,11 @@ def power_of(number, many):
     return product_of([number] * many)
 
 
+def union_of(lots):
+    """The lot of all parts of lots that have none in common."""
+    return tuple(sorted([part for lot in lots for part in lot]))
+
+
 def lot_bits(lot):
     """A lot as a number: the bit of each of its parts is 1."""
     return sum([1 << part for part in lot])

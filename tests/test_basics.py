@@ -27,6 +27,8 @@ NET = Net(4, 3, [(BOTH, (0, 1)), ((1, 0, 3, 2), (3,)), (BOTH, (4, 2))])
 OTHER_NET = Net(4, 3, [(BOTH, (0, 1)), ((0, 1, 2, 3), (3,)), (BOTH, (4, 2))])
 FORM = board_form(ODD)
 TOLD = {"many": 4, "lots": ((0, 1), (1, 2))}
+TWO = Board(2, (2, 2, 2), (0, 1, 0, 1, 0, 1, 1, 0))
+ZEROS, ONES = (0, 0, 0), (1, 1, 1)
 SUMS = Sums(Group(cycle_rows(3)), (2, 2), (((0, 0), 1), ((1, 0), 2), ((0, 1), 0)))
 
 # The module, the function, its arguments by name, and those of them that may be lists.
@@ -201,6 +203,46 @@ CALLS = [
     ("gaps", "spread_tries", {"group": SIX, "many": 2}, ""),
     ("gaps", "gap_most", {"group": SIX, "many": 2}, ""),
     ("gaps", "gap_worst", {"group": SIX, "many": 2}, ""),
+    ("hulls", "hull_chain", LOT, "lot"),
+    ("hulls", "hull_of", LOT, "lot"),
+    ("hulls", "single_hulls", {"board": TWO}, ""),
+    ("hulls", "hull_paper", LOT, "lot"),
+    ("hulls", "shown_hull", {"board": TWO, "lot": (2,), "value": ((), (0, 1), ((0, 0, 0, 1), (1, 1, 1, 0)))}, "lot"),
+    ("hulls", "meet_above", {"parts": 4, "lots": ((0, 1, 2), (1, 2, 3)), "lot": (1,)}, "lots lot"),
+    ("hulls", "key_lots", {"board": FIT}, ""),
+    ("knots", "wire_names", {"board": FIT, "lot": (0, 2), "base": ONES}, "lot base"),
+    ("knots", "wire_board", {"board": FIT, "lots": ((0, 2), (1,)), "base": ONES}, "lots base"),
+    ("knots", "wire_square", {"board": FIT, "one": (0,), "other": (2,), "base": ONES}, "one other base"),
+    ("knots", "knot_group", {"board": FIT, "lots": ((0,), (2,), (1,)), "base": ONES}, "lots base"),
+    ("knots", "other_naming", {"group": SIX, "mark": 4}, ""),
+    ("knots", "naming_row", {"board": FIT, "lot": (0, 2), "base": ONES, "other": (0, 1, 3)}, "lot base other"),
+    ("knots", "group_board", {"group": SIX, "rows": ((0, 1, 2, 3, 5, 4), (1, 0, 2, 3, 4, 5))}, "rows"),
+    ("knots", "knot_boards", {"group": SIX, "parts": 9}, ""),
+    ("movers", "part_movers", {"board": ODD, "part": 1}, ""),
+    ("movers", "mover_holds", {"board": FIT, "part": 1, "value": ((1, 2, 3, 0), (1, 2, 3, 0))}, ""),
+    ("movers", "paired_movers", LOT, "lot"),
+    ("movers", "serving_rows", {"board": FIT, "part": 1, "partners": (0, 2)}, "partners"),
+    ("movers", "full_partners", {"board": FIT, "part": 1}, ""),
+    ("roads", "reached_settings", {"board": FIT, "lots": ((0, 1),), "setting": ONES}, "lots setting"),
+    ("roads", "renewal_road", {"board": FIT, "lots": ((0, 1), (1, 2)), "setting": ONES, "other": (0, 0, 3)}, "lots setting other"),
+    ("roads", "renewal_road_holds", {"board": FIT, "lots": ((0, 1),), "setting": ONES, "other": ONES, "value": ()}, "lots setting other"),
+    ("roads", "reach_lots", {"board": FIT, "lots": ((0, 1),)}, "lots"),
+    ("steady", "net_broken", {"net": NET, "lot": (0, 1), "rows": RENEWAL[:1] + ((0, 1, 2, 3),)}, "lot rows"),
+    ("steady", "net_renewals", {"net": NET, "lot": (0, 2)}, "lot"),
+    ("steady", "net_movers", {"net": NET, "part": 1}, ""),
+    ("wrong", "explained_by", {"board": ODD, "setting": ONES, "mark": 2}, "setting"),
+    ("wrong", "changed_many", {"many": 4, "parts": 9}, ""),
+    ("wrong", "unnoticed_many", {"many": 4, "parts": 9}, ""),
+    ("wrong", "nth_unnoticed", {"board": FIT, "setting": ONES, "lot": (0, 1), "number": 1}, "lot setting"),
+    ("wrong", "unnoticed_number", {"board": FIT, "setting": ONES, "wrong": (0, 2, 1)}, "setting wrong"),
+    ("wrong", "full_no", LOT, "lot"),
+    ("wrong", "knowing_kinds", LOT | {"mark": 1}, "lot"),
+    ("blocks", "mark_blocks", {"board": TWO}, ""),
+    ("blocks", "block_bits", {"board": TWO}, ""),
+    ("blocks", "bits_hold", {"board": TWO, "value": (((0, 1), (2,)), 0, ((0, 0, 0, 1), (0, 1)))}, ""),
+    ("blocks", "odd_square", {"board": TWO, "one": 0, "other": 1}, ""),
+    ("blocks", "odd_road", {"board": TWO, "one": 0, "other": 1}, ""),
+    ("blocks", "odd_road_holds", {"board": TWO, "one": 0, "other": 1, "value": ((0, 1, ZEROS, 1, 1),)}, ""),
 ]
 
 
@@ -246,9 +288,10 @@ class TestBasics(unittest.TestCase):
         called = {(module, name) for module, name, _, _ in CALLS}
         from test_interface import FUNCTIONS
         listed = {(module, signature.partition("(")[0]) for module, signatures in FUNCTIONS.items() for signature in signatures}
-        # The pairs of held_parts are tuples within a list or a tuple; test_putting.py calls it with both.
-        self.assertEqual(listed - called, {("boards", "need_board"), ("putting", "held_parts")})
-        self.assertEqual(modules, set(FUNCTIONS))
+        # Pairs are tuples within a list or a tuple; test_putting.py and test_wrong.py call these with both.
+        paired = {("putting", "held_parts"), ("wrong", "count_fitting"), ("wrong", "nth_fitting"), ("wrong", "fitting_number")}
+        self.assertEqual(listed - called, {("boards", "need_board")} | paired)
+        self.assertEqual(modules | {"books"}, set(FUNCTIONS))
 
 
 if __name__ == "__main__":

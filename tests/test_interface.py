@@ -59,6 +59,23 @@ FUNCTIONS = {
     "gaps": ["gap_mark(group, stretches, gaps)", "gap_pass(group, one, other)", "gap_kinds(group, many)",
              "gap_unnoticed(group, many, tries)", "gap_blind(group, gaps)", "gap_bounds(group, many)", "spread_tries(group, many)",
              "gap_most(group, many)", "gap_worst(group, many)"],
+    "hulls": ["hull_chain(board, lot)", "hull_of(board, lot)", "single_hulls(board)", "hull_paper(board, lot)",
+              "shown_hull(board, lot, value)", "meet_above(parts, lots, lot)", "key_lots(board)"],
+    "knots": ["wire_names(board, lot, base)", "wire_board(board, lots, base)", "wire_square(board, one, other, base)",
+              "knot_group(board, lots, base)", "other_naming(group, mark)", "naming_row(board, lot, base, other)",
+              "group_board(group, rows)", "knot_boards(group, parts)"],
+    "movers": ["part_movers(board, part)", "mover_holds(board, part, value)", "paired_movers(board, lot)",
+               "serving_rows(board, part, partners)", "full_partners(board, part)"],
+    "roads": ["reached_settings(board, lots, setting)", "renewal_road(board, lots, setting, other)",
+              "renewal_road_holds(board, lots, setting, other, value)", "reach_lots(board, lots)"],
+    "steady": ["net_broken(net, lot, rows)", "net_renewals(net, lot)", "net_movers(net, part)"],
+    "wrong": ["explained_by(board, setting, mark)", "changed_many(many, parts)", "unnoticed_many(many, parts)",
+              "nth_unnoticed(board, setting, lot, number)", "unnoticed_number(board, setting, wrong)", "full_no(board, lot)",
+              "count_fitting(board, pairs, mark)", "nth_fitting(board, pairs, mark, number)", "fitting_number(board, pairs, setting)",
+              "knowing_kinds(board, lot, mark)"],
+    "blocks": ["mark_blocks(board)", "block_bits(board)", "bits_hold(board, value)", "odd_square(board, one, other)",
+               "odd_road(board, one, other)", "odd_road_holds(board, one, other, value)"],
+    "books": [],
 }
 CLASSES = {
     ("boards", "Board"): ["__init__(self, many, sizes, marks)", "__call__(self, setting)", "text(self)", "read(text)",
@@ -74,6 +91,9 @@ CLASSES = {
                       "__eq__(self, other)", "__len__(self)"],
     ("forms", "Form"): ["__init__(self, many, names, knots)", "__call__(self, setting)", "text(self)", "read(text)",
                         "__eq__(self, other)", "__len__(self)"],
+    ("books", "Book"): ["__init__(self, many)", "tell(self, lot, tested)", "forget(self, number)", "known(self, lot)",
+                        "known_lots(self)", "told_shape(self)", "known_paper(self, lot)", "paper_shows(self, lot, value)",
+                        "fitting_board(self, lot, tested)"],
 }
 
 
