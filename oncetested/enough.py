@@ -1,5 +1,7 @@
 """How many tries are enough, and what shows that fewer are not."""
 
+from itertools import combinations
+
 from oncetested.boards import is_setting, lot_contents, lot_sizes
 from oncetested.errors import InvalidSize
 from oncetested.tries import need_few_tries, tried_marks
@@ -167,8 +169,7 @@ def surely_enough(board, lot):
     if not found:
         return 0, None
     fewest = min([count_bits(bits) for bits in found])
-    for one, row in enumerate(rows):
-        for other in range(one + 1, len(rows)):
-            if row != rows[other] and count_bits(noticed_bits(row, rows[other])) == fewest:
-                return len(tries) - fewest + 1, (contents[one], contents[other])
-    return 0, None
+    changes = [(one, other) for one, other in combinations(range(len(rows)), 2)
+               if count_bits(noticed_bits(rows[one], rows[other])) == fewest]
+    one, other = changes[0]
+    return len(tries) - fewest + 1, (contents[one], contents[other])

@@ -55,8 +55,9 @@ def mover_to(board, part, content):
 def part_movers(board, part):
     """All movers of a part, ascending (any value)."""
     need_moved(board, part)
+    # Movers ascend with the content to which they lead 0: no two lead it to one.
     found = [mover_to(board, part, content) for content in range(board.many)]
-    return tuple(sorted([mover for mover in found if mover is not None]))
+    return tuple([mover for mover in found if mover is not None])
 
 
 def mover_holds(board, part, value):
@@ -73,8 +74,7 @@ def paired_movers(board, lot):
     """The renewals of a lot of two parts that movers of both with the same marks make, ascending."""
     one, other = need_fair_lot(board, lot)
     rows = {marks: row for row, marks in part_movers(board, other)}
-    pairs = [(row, undone_row(rows[marks])) for row, marks in part_movers(board, one) if marks in rows]
-    return tuple(sorted(pairs))
+    return tuple([(row, undone_row(rows[marks])) for row, marks in part_movers(board, one) if marks in rows])
 
 
 def pair_renewals(board, part, partner):

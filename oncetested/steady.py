@@ -100,5 +100,6 @@ def net_movers(net, part):
         raise InvalidLot(0)
     if net.parts == 1:
         raise Refused(part)
+    # Movers ascend with the content to which they lead 0: no two lead it to one.
     found = [net_mover_to(net, part, content) for content in range(net.many)]
-    return tuple(sorted([mover for mover in found if mover is not None]))
+    return tuple([mover for mover in found if mover is not None])

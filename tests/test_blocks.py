@@ -147,7 +147,8 @@ class TestBlocks(unittest.TestCase):
                       (((1, 0), (2,)), base, rows), (((0, 1),), base, rows[:1]), (((0, 1), (2,), ()), base, rows + ((0,),)), (((0, 1), (1, 2)), base, rows),
                       (((0, 1), (2,), (2,)), base, rows + ((0, 0),)), (((0, 1), (3,)), base, rows), (((0, True), (2,)), base, rows), (lots, base, rows[:1]),
                       (lots, base, rows + ((0,),)), (lots, base, ((0, 0, 0), (0, 1))), (lots, base, ((0, 0, 0, 1, 0), (0, 1))),
-                      (lots, base, ((0, 0, 0, 1), (False, True))), (lots, base, ((0, 0, 0, 1), (0, 2))), (lots, base, ((0, 0, 0, 1), "01")), (lots, base, None),
+                      (lots, base, ((0, 0, 0, 1), (False, True))), (lots, base, ((0, 0, 0, 1), (0, 2))), (lots, base, ((2, 0, 0, 1), (0, 1))),
+                      (lots, base, ((0, 0, 0, 1), (0, 3))), (lots, base, ((0, 0, 0, -1), (0, 1))), (lots, base, ((0, 0, 0, 1), "01")), (lots, base, None),
                       (None, base, rows), (((), (0, 1), (2,)), base, ((0,),) + rows), ((0, (2,)), base, rows)):
             self.assertIs(bits_hold(board, value), False)
         for value in any_values():

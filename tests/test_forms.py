@@ -150,7 +150,9 @@ class TestForm(unittest.TestCase):
     def test_arguments(self):
         for _, shape, (many, names, knots) in random_forms(2, 20):
             form = Form(many, names, knots)
-            self.assertEqual(Form(knots=[(kind, list(wires), table) for kind, wires, table in knots], names=as_lists(names), many=many), form)
+            listed = Form(knots=[(kind, list(wires), as_lists(table)) for kind, wires, table in knots], names=as_lists(names), many=many)
+            self.assertEqual(listed, form)
+            self.assertFalse(has_lists((listed.names, listed.knots)))
             self.assertEqual((form.many, form.names, form.knots, form.base), (many, names, knots, names[0][0]))
             self.assertEqual(len(form), len(leaves(shape)))
 
@@ -344,7 +346,7 @@ class TestText(unittest.TestCase):
                  2: ["", "part", "part ", "part 0x", "par 0123"],
                  4: ["", "bare", "bare 0 1 ", "bare 0123", "bare 0 01 0", "bare 0 x 0", "bare 0 -1 0", "bare 0 1000 0", "bare  0 1 0",
                      "bare 0 1 0 ", "bared 0 1 0", "line 0 1 2 012", "free 0 1 2 0123012301230", "free 0 1 2 " + "0" * 17, "Bare 0 1 0", "free 0 1 2 x",
-                     "bare 0 1 0x", "part"],
+                     "bare 0 1 0x", "part", "knot" + rows[4][4:], "part" + rows[4][4:]],
                  5: ["", "part 0123", "part 0123 ", "bare 3 2 ", "knot 3 2 0"]}
         for at, texts in wrong.items():
             for text in texts:

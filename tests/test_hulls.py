@@ -174,6 +174,7 @@ class TestPapers(unittest.TestCase):
         pair = lot_reading(apart, hull_of(apart, (0,)))
         self.assertEqual(hull_of(apart, (0,)), (0, 2))
         self.assertIsNone(shown_hull(apart, (0,), ((across,),) + pair))
+        self.assertIsNone(shown_hull(apart, (0,), ((across,),) + lot_reading(apart, (0, 1, 2))))
         self.assertEqual(shown_hull(apart, (0,), ((((0,), (1,), (1, 0), (1, 1)),),) + pair), (0, 2))
 
     def test_any_values(self):
