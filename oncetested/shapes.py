@@ -1,5 +1,7 @@
 """Shapes: trees of parts, their strong lots and their inner lots."""
 
+from itertools import combinations
+
 from oncetested.errors import InvalidShape, InvalidSize
 from oncetested.values import is_below, is_integer, union_of
 
@@ -139,6 +141,27 @@ def lot_place(shape, lot):
     tree = least_tree(shape, lot)
     numbers = [] if is_leaf(tree) else met_children(tree, lot)
     return parts_of(tree), tuple(numbers)
+
+
+def joined_choices(knot):
+    """The numbers of children, two or more, that make inner lots of a knot."""
+    numbers = list(range(len(knot[1])))
+    if knot[0] == "bare":
+        return [numbers]
+    if knot[0] == "line":
+        return [numbers[first:last + 1] for first in numbers for last in numbers if first < last]
+    return [choice for many in range(2, len(numbers) + 1) for choice in combinations(numbers, many)]
+
+
+def inner_lots(shape):
+    """All inner lots, ascending."""
+    lots = []
+    for tree in trees_of(shape):
+        if is_leaf(tree):
+            lots.append(parts_of(tree))
+        else:
+            lots.extend([joined_parts(tree, numbers) for numbers in joined_choices(tree)])
+    return tuple(sorted(lots))
 
 
 def crossing_lot(shape, lot):

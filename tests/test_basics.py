@@ -10,6 +10,7 @@ from oncetested.groups import Group
 from oncetested.nets import Net
 from oncetested.pairs import Pairs
 from oncetested.sums import Sums
+from oncetested.told import Told
 from support import as_lists, cycle_rows, has_lists, latin, odd_board, permutation_rows, seeded, sums_board
 
 ODD = odd_board()
@@ -30,6 +31,10 @@ TOLD = {"many": 4, "lots": ((0, 1), (1, 2))}
 TWO = Board(2, (2, 2, 2), (0, 1, 0, 1, 0, 1, 1, 0))
 ZEROS, ONES = (0, 0, 0), (1, 1, 1)
 SUMS = Sums(Group(cycle_rows(3)), (2, 2), (((0, 0), 1), ((1, 0), 2), ((0, 1), 0)))
+
+HELD = {"board": ODD, "pairs": ((0, 2),)}
+SEEN = {"shape": SHAPE, "wrong": ((0, 1, 2, 3, 4),), "right": ((1, 3, 4), (2,))}
+TOLD_FORM = Told(FORM, (((1, 0, 0), 0), ((2, 0, 0), 3), ((0, 1, 0), 0), ((0, 2, 0), 2)))
 
 # The module, the function, its arguments by name, and those of them that may be lists.
 CALLS = [
@@ -242,6 +247,45 @@ CALLS = [
     ("blocks", "bits_hold", {"board": TWO, "value": (((0, 1), (2,)), 0, ((0, 0, 0, 1), (0, 1)))}, ""),
     ("blocks", "odd_square", {"board": TWO, "one": 0, "other": 1}, ""),
     ("blocks", "odd_road", {"board": TWO, "one": 0, "other": 1}, ""),
+    ("rules", "ruled_lot", {"rules": (((0,), (1, 2)), ((1, 2), (3,))), "lot": (0, 4)}, "lot"),
+    ("rules", "fewest_rules", {"board": TWO}, ""),
+    ("rules", "least_makers", {"board": TWO, "lot": (0, 1)}, "lot"),
+    ("rules", "rule_board", {"parts": 4, "lot": (0, 2), "part": 3}, "lot"),
+    ("moves", "tidy_form", {"many": 4, "names": ((1, 0, 2, 3), (0, 1, 2, 3)), "rows": (((1, 0), BOTH),)}, "names"),
+    ("moves", "led_form", {"form": FORM, "part": 1, "row": (3, 0, 1, 2)}, "row"),
+    ("moves", "marked_form", {"form": FORM, "row": (3, 0, 1, 2)}, "row"),
+    ("moves", "turned_form", {"form": FORM, "order": (2, 0, 1)}, "order"),
+    ("moves", "near_form", {"form": FORM, "lot": (0, 2)}, "lot"),
+    ("moves", "put_form", {"outer": FORM, "part": 1, "inner": board_form(FIT)}, ""),
+    ("strong", "plain_net", {"net": NET}, ""),
+    ("strong", "look_board", {"net": Net(4, 3, [(BOTH, (0, 1)), (BOTH, (3, 2))]), "wire": 3}, ""),
+    ("strong", "net_strong", {"net": NET}, ""),
+    ("strong", "net_form", {"net": NET}, ""),
+    ("strong", "form_net", {"form": FORM}, ""),
+    ("strong", "net_hull", {"net": NET, "lot": (0, 2)}, "lot"),
+    ("strong", "net_tested", {"net": NET, "lot": (0, 2)}, "lot"),
+    ("held", "left_parts", HELD, ""),
+    ("held", "left_lots", HELD, ""),
+    ("held", "gained_lots", HELD, ""),
+    ("held", "gain_paper", HELD | {"lot": (1, 2)}, "lot"),
+    ("held", "gain_holds", HELD | {"lot": (1, 2), "value": ((0,),) * 5}, "lot"),
+    ("held", "layer_readings", {"board": ODD, "part": 0, "lot": (1, 2)}, "lot"),
+    ("held", "layer_kinds", {"board": ODD, "part": 0, "lot": (1, 2)}, "lot"),
+    ("held", "fewest_holds", LOT, "lot"),
+    ("held", "loose_lots", LOT | {"setting": (0, 1, 2)}, "lot setting"),
+    ("shown", "unparted_pair", {"many": 3, "lots": ((0,), (1, 2))}, "lots"),
+    ("shown", "seen_wrong", {"board": FIT, "lots": ((0, 1), (2,)), "setting": ONES, "wrong": (1, 0, 1)}, "lots setting wrong"),
+    ("shown", "suspect_parts", {"many": 4, "lots": ((1, 3), (2, 3)), "seen": (True, False)}, "lots seen"),
+    ("shown", "hidden_pair", {"board": FIT, "lots": ((0, 1),), "setting": ONES}, "lots setting"),
+    ("shown", "fewest_shown", {"shape": SHAPE}, ""),
+    ("blame", "blame_counts", SEEN, "wrong right"),
+    ("blame", "blame_fits", SEEN | {"lot": (1, 3)}, "wrong right lot"),
+    ("blame", "nth_blame", SEEN | {"size": 3, "number": 1}, "wrong right"),
+    ("blame", "blame_setting", {"board": FIT, "setting": ONES, "wrong": ((1,),), "right": ((0, 1, 2),), "lot": (1, 2)},
+     "setting wrong right lot"),
+    ("told", "untold_pairs", {"told": TOLD_FORM}, ""),
+    ("told", "swapped_names", {"names": ((0, 1, 2), (0, 2, 1)), "part": 1, "one": 1, "other": 2}, "names"),
+    ("told", "cross_settings", {"told": TOLD_FORM}, ""),
     ("blocks", "odd_road_holds", {"board": TWO, "one": 0, "other": 1, "value": ((0, 1, ZEROS, 1, 1),)}, ""),
 ]
 
@@ -279,8 +323,10 @@ class TestBasics(unittest.TestCase):
             self.assertFalse(has_lists(function(**listed)))
 
     def test_whether_is_true_or_false(self):
+        endings = ("_holds", "_stays", "_fit", "_fits", "_tested")
         for function, arguments, _ in self.each():
-            if function.__name__.startswith("is_") or function.__name__.endswith(("_holds", "_stays", "_fit")):
+            name = function.__name__
+            if name.startswith("is_") or name.endswith(endings) and name != "fewest_holds":
                 self.assertIsInstance(function(**arguments), bool)
 
     def test_every_function_is_called(self):
@@ -291,7 +337,7 @@ class TestBasics(unittest.TestCase):
         # Pairs are tuples within a list or a tuple; test_putting.py and test_wrong.py call these with both.
         paired = {("putting", "held_parts"), ("wrong", "count_fitting"), ("wrong", "nth_fitting"), ("wrong", "fitting_number")}
         self.assertEqual(listed - called, {("boards", "need_board")} | paired)
-        self.assertEqual(modules | {"books"}, set(FUNCTIONS))
+        self.assertEqual(modules | {"books", "live"}, set(FUNCTIONS))
 
 
 if __name__ == "__main__":

@@ -76,6 +76,20 @@ FUNCTIONS = {
     "blocks": ["mark_blocks(board)", "block_bits(board)", "bits_hold(board, value)", "odd_square(board, one, other)",
                "odd_road(board, one, other)", "odd_road_holds(board, one, other, value)"],
     "books": [],
+    "held": ["left_parts(board, pairs)", "left_lots(board, pairs)", "gained_lots(board, pairs)", "gain_paper(board, pairs, lot)",
+             "gain_holds(board, pairs, lot, value)", "layer_readings(board, part, lot)", "layer_kinds(board, part, lot)",
+             "fewest_holds(board, lot)", "loose_lots(board, lot, setting)"],
+    "live": [],
+    "moves": ["tidy_form(many, names, rows)", "led_form(form, part, row)", "marked_form(form, row)", "turned_form(form, order)",
+              "near_form(form, lot)", "put_form(outer, part, inner)"],
+    "rules": ["ruled_lot(rules, lot)", "fewest_rules(board)", "least_makers(board, lot)", "rule_board(parts, lot, part)"],
+    "shown": ["unparted_pair(many, lots)", "seen_wrong(board, lots, setting, wrong)", "suspect_parts(many, lots, seen)",
+              "hidden_pair(board, lots, setting)", "fewest_shown(shape)"],
+    "strong": ["plain_net(net)", "look_board(net, wire)", "net_strong(net)", "net_form(net)", "form_net(form)", "net_hull(net, lot)",
+               "net_tested(net, lot)"],
+    "told": ["untold_pairs(told)", "swapped_names(names, part, one, other)", "cross_settings(told)"],
+    "blame": ["blame_counts(shape, wrong, right)", "blame_fits(shape, wrong, right, lot)",
+              "nth_blame(shape, wrong, right, size, number)", "blame_setting(board, setting, wrong, right, lot)"],
 }
 CLASSES = {
     ("boards", "Board"): ["__init__(self, many, sizes, marks)", "__call__(self, setting)", "text(self)", "read(text)",
@@ -94,6 +108,10 @@ CLASSES = {
     ("books", "Book"): ["__init__(self, many)", "tell(self, lot, tested)", "forget(self, number)", "known(self, lot)",
                         "known_lots(self)", "told_shape(self)", "known_paper(self, lot)", "paper_shows(self, lot, value)",
                         "fitting_board(self, lot, tested)"],
+    ("live", "Live"): ["__init__(self, board, shelf=())", "deed(self, text)", "undo(self)", "redo(self)", "now_shape(self)",
+                       "now_form(self)", "mark_stays(self, lot, contents)"],
+    ("told", "Told"): ["__init__(self, form, cases)", "names_fit(self, value)", "all_names(self)", "can_be(self, setting)",
+                       "sure_mark(self, setting)"],
 }
 
 

@@ -154,7 +154,7 @@ class TestLanguage(unittest.TestCase):
                 if isinstance(node, ast.Call):
                     place = f"{name}:{node.lineno}"
                     if isinstance(node.func, ast.Name):
-                        self.assertTrue(node.func.id in known or node.func.id in ("board", "form", "net"), place)
+                        self.assertTrue(node.func.id in known or node.func.id in ("board", "form", "net", "action"), place)
                         self.check_keywords(node, place)
                     else:
                         self.assertIsInstance(node.func, ast.Attribute, place)
