@@ -165,22 +165,38 @@ def tidy_form(many, names, rows):
     return Form(many, told, stood_knots(many, parts, nodes, wires[-1]))
 
 
-def laid_rows(form, wires, parts, rows):
+def product_rows(parts, rows, wires, first, table):
+    """Put rows of two wires behind rows of a tree that make a product of wires, those of some numbers first."""
+    steps = [(number, True) for number in first[1:]]
+    steps.extend([(number, False) for number in reversed(range(first[0]))])
+    steps.extend([(number, True) for number in range(first[0] + 1, len(wires)) if number not in first])
+    here = wires[first[0]]
+    for number, behind in steps:
+        rows.append(((here, wires[number]) if behind else (wires[number], here), table))
+        here = parts + len(rows) - 1
+
+
+def gathered_rows(form, wires, parts, rows, gathered):
     """Put a form's knots behind rows of a tree of so many parts, those of groups as rows of two wires.
 
-    The parts of the form are some wires of this tree; told are the wires of all its own.
+    The parts of the form are some wires of this tree; told are the wires of all its own. Of knots of groups it may be
+    told by their numbers which of their children, neighbours if in line, come first.
     """
     wires = list(wires)
-    for kind, read, table in form.knots:
+    for number, (kind, read, table) in enumerate(form.knots):
+        beneath = tuple([wires[wire] for wire in read])
         if kind == "bare":
-            rows.append((tuple([wires[wire] for wire in read]), table))
+            rows.append((beneath, table))
         else:
             flat = tuple([name for row in table for name in row])
-            rows.append(((wires[read[0]], wires[read[1]]), flat))
-            for wire in read[2:]:
-                rows.append(((parts + len(rows) - 1, wires[wire]), flat))
+            product_rows(parts, rows, beneath, gathered.get(number, (0,)), flat)
         wires.append(parts + len(rows) - 1)
     return wires
+
+
+def laid_rows(form, wires, parts, rows):
+    """Put a form's knots behind rows of a tree, as gathered_rows does, with nothing told of their children."""
+    return gathered_rows(form, wires, parts, rows, {})
 
 
 def led_form(form, part, row):

@@ -35,6 +35,8 @@ SUMS = Sums(Group(cycle_rows(3)), (2, 2), (((0, 0), 1), ((1, 0), 2), ((0, 1), 0)
 HELD = {"board": ODD, "pairs": ((0, 2),)}
 SEEN = {"shape": SHAPE, "wrong": ((0, 1, 2, 3, 4),), "right": ((1, 3, 4), (2,))}
 TOLD_FORM = Told(FORM, (((1, 0, 0), 0), ((2, 0, 0), 3), ((0, 1, 0), 0), ((0, 2, 0), 2)))
+CLASH_FORM = Told(FORM, TOLD_FORM.cases + (((1, 0, 0), 1),))
+ODD_NET = Net(4, 3, [(ODD.marks, (0, 1, 2))])
 
 # The module, the function, its arguments by name, and those of them that may be lists.
 CALLS = [
@@ -286,6 +288,30 @@ CALLS = [
     ("told", "untold_pairs", {"told": TOLD_FORM}, ""),
     ("told", "swapped_names", {"names": ((0, 1, 2), (0, 2, 1)), "part": 1, "one": 1, "other": 2}, "names"),
     ("told", "cross_settings", {"told": TOLD_FORM}, ""),
+    ("holds", "held_form", {"form": FORM, "pairs": ((0, 2),)}, ""),
+    ("holds", "left_shape", {"shape": SHAPE, "lot": (0, 1, 4)}, "lot"),
+    ("holds", "gain_count", {"form": FORM, "pairs": ((0, 2),)}, ""),
+    ("holds", "gaining_holds", {"form": FORM}, ""),
+    ("parted", "net_no", {"net": ODD_NET, "lot": (0, 1)}, "lot"),
+    ("parted", "net_no_holds", {"net": ODD_NET, "lot": (0, 1), "value": NO}, "lot"),
+    ("parted", "gathered_net", {"net": NET, "lot": (0, 2)}, "lot"),
+    ("parted", "gathered_holds", {"net": NET, "lot": (0, 1), "value": OTHER_NET}, "lot"),
+    ("parting", "near_settings", {"many": 3, "parts": 4, "most": 2}, ""),
+    ("parting", "parting_parts", {"one": FORM, "other": board_form(FIT)}, ""),
+    ("parting", "parting_setting", {"one": FORM, "other": FORM}, ""),
+    ("parting", "form_by_marks", {"many": 2, "parts": 2, "marks": (0, 1, 1, 0)}, "marks"),
+    ("renamings", "how_many_renamings", {"one": FORM, "other": FORM}, ""),
+    ("renamings", "some_renaming", {"one": FORM, "other": FORM}, ""),
+    ("renamings", "is_renaming", {"one": FORM, "other": FORM, "value": ((0, 1, 2, 3),) * 2}, ""),
+    ("renamings", "how_many_alike", {"form": FORM}, ""),
+    ("splits", "clash_split", {"told": CLASH_FORM}, ""),
+    ("splits", "sure_split", {"told": TOLD_FORM, "setting": (1, 0, 0)}, "setting"),
+    ("splits", "split_holds", {"told": TOLD_FORM, "setting": (1, 0, 0), "mark": 0, "value": ("mark",)}, "setting"),
+    ("splits", "clash_split_holds", {"told": CLASH_FORM, "value": ("case", 0)}, ""),
+    ("checker", "sheet_holds", {"kind": "one-test", "question": (ODD, (0, 1)), "value": NO}, ""),
+    ("checker", "wrong_sheets", {"sheets": (("one-test", (ODD, (0, 1)), NO), ("not one-test", (ODD, (0, 1)), NO))}, ""),
+    ("settling", "contrary_kind", {"kind": "sure"}, ""),
+    ("settling", "settled_sheet", {"kind": "one-test", "question": (ODD, (0, 1))}, "question"),
     ("blocks", "odd_road_holds", {"board": TWO, "one": 0, "other": 1, "value": ((0, 1, ZEROS, 1, 1),)}, ""),
 ]
 
@@ -326,7 +352,7 @@ class TestBasics(unittest.TestCase):
         endings = ("_holds", "_stays", "_fit", "_fits", "_tested")
         for function, arguments, _ in self.each():
             name = function.__name__
-            if name.startswith("is_") or name.endswith(endings) and name != "fewest_holds":
+            if name.startswith("is_") or name.endswith(endings) and name not in ("fewest_holds", "gaining_holds"):
                 self.assertIsInstance(function(**arguments), bool)
 
     def test_every_function_is_called(self):
@@ -337,7 +363,7 @@ class TestBasics(unittest.TestCase):
         # Pairs are tuples within a list or a tuple; test_putting.py and test_wrong.py call these with both.
         paired = {("putting", "held_parts"), ("wrong", "count_fitting"), ("wrong", "nth_fitting"), ("wrong", "fitting_number")}
         self.assertEqual(listed - called, {("boards", "need_board")} | paired)
-        self.assertEqual(modules | {"books", "live"}, set(FUNCTIONS))
+        self.assertEqual(modules | {"books", "live", "desk"}, set(FUNCTIONS))
 
 
 if __name__ == "__main__":

@@ -90,6 +90,17 @@ FUNCTIONS = {
     "told": ["untold_pairs(told)", "swapped_names(names, part, one, other)", "cross_settings(told)"],
     "blame": ["blame_counts(shape, wrong, right)", "blame_fits(shape, wrong, right, lot)",
               "nth_blame(shape, wrong, right, size, number)", "blame_setting(board, setting, wrong, right, lot)"],
+    "desk": [],
+    "holds": ["held_form(form, pairs)", "left_shape(shape, lot)", "gain_count(form, pairs)", "gaining_holds(form)"],
+    "parted": ["net_no(net, lot)", "net_no_holds(net, lot, value)", "gathered_net(net, lot)", "gathered_holds(net, lot, value)"],
+    "parting": ["near_settings(many, parts, most)", "parting_parts(one, other)", "parting_setting(one, other)",
+                "form_by_marks(many, parts, marks)"],
+    "renamings": ["how_many_renamings(one, other)", "some_renaming(one, other)", "is_renaming(one, other, value)",
+                  "how_many_alike(form)"],
+    "splits": ["clash_split(told)", "sure_split(told, setting)", "split_holds(told, setting, mark, value)",
+               "clash_split_holds(told, value)"],
+    "checker": ["sheet_holds(kind, question, value)", "wrong_sheets(sheets)"],
+    "settling": ["contrary_kind(kind)", "settled_sheet(kind, question)"],
 }
 CLASSES = {
     ("boards", "Board"): ["__init__(self, many, sizes, marks)", "__call__(self, setting)", "text(self)", "read(text)",
@@ -112,6 +123,9 @@ CLASSES = {
                        "now_form(self)", "mark_stays(self, lot, contents)"],
     ("told", "Told"): ["__init__(self, form, cases)", "names_fit(self, value)", "all_names(self)", "can_be(self, setting)",
                        "sure_mark(self, setting)"],
+    ("desk", "Desk"): ["__init__(self)", "say(self, command)"],
+    ("holds", "Holds"): ["__init__(self, form)", "hold(self, part, content)", "let_go(self, part)", "turn_to(self, part, content)",
+                         "take_back(self)", "is_tested(self, lot)", "count_now(self)", "count_gained(self)", "gained_now(self)"],
 }
 
 

@@ -10,7 +10,7 @@ FILES = sorted(FOLDER.glob("*.py"))
 LIBRARY = {("math", "gcd"), ("math", "comb"), ("math", "factorial"), ("itertools", "combinations"), ("itertools", "permutations")}
 BUILTINS = set("len range enumerate zip min max sum abs sorted reversed int str bool list tuple dict set isinstance ord repr any "
                "all divmod Exception ValueError TypeError KeyError IndexError LookupError".split())
-METHODS = set("append clear copy count endswith extend find get index insert items join keys partition pop remove replace "
+METHODS = set("append clear copy count endswith extend find get index insert items join keys partition pop remove replace rpartition "
               "setdefault split startswith strip update values bit_length".split())
 DOUBLE = {"__init__", "__eq__", "__len__", "__call__"}
 UNUSED = set("register mro elements open input law version_info with_traceback add_note attrgetter breakpoint builtins compile "
@@ -128,7 +128,8 @@ class TestLanguage(unittest.TestCase):
             left = {name: left[name] for name in left if name not in free}
 
     def test_names(self):
-        barred = (set(dir(builtins)) | UNUSED) - {"copyright"}
+        # Doctests leave a name of one stroke among the builtins.
+        barred = (set(dir(builtins)) | UNUSED) - {"copyright", "_"}
         for name, tree in self.trees.items():
             for node in ast.walk(tree):
                 if isinstance(node, ast.FunctionDef):
@@ -154,7 +155,7 @@ class TestLanguage(unittest.TestCase):
                 if isinstance(node, ast.Call):
                     place = f"{name}:{node.lineno}"
                     if isinstance(node.func, ast.Name):
-                        self.assertTrue(node.func.id in known or node.func.id in ("board", "form", "net", "action"), place)
+                        self.assertTrue(node.func.id in known or node.func.id in ("board", "form", "net", "one", "other", "action"), place)
                         self.check_keywords(node, place)
                     else:
                         self.assertIsInstance(node.func, ast.Attribute, place)
@@ -163,7 +164,7 @@ class TestLanguage(unittest.TestCase):
     def check_keywords(self, call, place):
         if call.func.id in BUILTINS:
             for keyword in call.keywords:
-                self.assertIn((call.func.id, keyword.arg), {("sorted", "key"), ("min", "key"), ("max", "key"), ("max", "default")}, place)
+                self.assertIn((call.func.id, keyword.arg), {("sorted", "key"), ("min", "key"), ("max", "key"), ("max", "default"), ("min", "default")}, place)
 
     def test_iterated_at_once(self):
         for name, tree in self.trees.items():
