@@ -31,14 +31,16 @@ class Live:
     """A fair board that deeds change; a shelf of boards that can be put in."""
 
     def __init__(self, board, shelf=()):
-        need_fair(board)
-        parts = len(board)
+        self.board = need_fair(board)
+        self.labels = tuple(range(len(board)))
+        self.setting = (0,) * len(board)
+        self.held = ()
         self.shelf = tuple(shelf)
         self.deeds = ()
         self.changed = ((), ())
+        self.lots = inner_lots(self.now_shape())
         self.undone = ()
-        self.scenes = (Scene(board, tuple(range(parts)), (0,) * parts, (), parts),)
-        show_scene(self)
+        self.scenes = (Scene(board, self.labels, self.setting, (), len(board)),)
 
     def deed(self, text):
         """Do a deed (any value)."""
@@ -91,8 +93,13 @@ def need_places(labels, lot):
     return [labels.index(label) for label in lot]
 
 
+def labelled(labels, lot):
+    """A lot of places as a lot of labels."""
+    return tuple(sorted([labels[place] for place in lot]))
+
+
 def show_scene(live):
-    """Set what a live board shows of its last scene."""
+    """Set what a live board shows of its last scene, and its one-test lots as lots of labels."""
     scene = live.scenes[-1]
     places = {label: place for place, label in enumerate(scene.labels)}
     left = [place for place, label in enumerate(scene.labels) if label not in scene.held]
@@ -101,11 +108,7 @@ def show_scene(live):
     live.labels = tuple([scene.labels[place] for place in left])
     live.setting = tuple([scene.setting[place] for place in left])
     live.held = tuple(sorted([(label, scene.setting[places[label]]) for label in scene.held]))
-
-
-def labelled_lots(live):
-    """The one-test lots of a live board as lots of labels."""
-    return [tuple(sorted([live.labels[place] for place in lot])) for lot in inner_lots(live.now_shape())]
+    live.lots = tuple([labelled(live.labels, lot) for lot in inner_lots(live.now_shape())])
 
 
 def lots_beyond(lots, others, labels):
@@ -117,12 +120,11 @@ def lots_beyond(lots, others, labels):
 
 def turn_scenes(live, scenes):
     """Make these the scenes of a live board, and tell which lots have changed."""
-    before = labelled_lots(live)
+    before = live.lots
     labels = live.labels
     live.scenes = scenes
     show_scene(live)
-    now = labelled_lots(live)
-    live.changed = (lots_beyond(before, now, live.labels), lots_beyond(now, before, labels))
+    live.changed = (lots_beyond(before, live.lots, live.labels), lots_beyond(live.lots, before, labels))
 
 
 def step_on(live, text):

@@ -118,7 +118,7 @@ class TestKinds(unittest.TestCase):
         change = unnoticed_change(ODD, (0, 1), ((0,),))
         self.both((ODD, (0, 1), ((0,),)), "unsettled", change, ())
         u, v, t = change
-        for value in ((v, u, t), (u, v, (0,)), (u, v), (u, v, t, t), list(change), (list(u), v, t), (u, v, list(t)), (u, v, (4,)), (u, v, ()), (u, v, None),
+        for value in ((v, u, t), (u, v, (0,)), (u, v), (u, v, t, t), list(change), (list(u), v, t), (u, list(v), t), (u, v, list(t)), (u, v, (4,)), (u, v, ()), (u, v, None),
                       (u, u, t), (None, v, t), (u, v, t + t), (u, (0, 4), t)):
             self.assertIs(sheet_holds("unsettled", (ODD, (0, 1), ((0,),)), value), False)
         # A change that does not stay at a told try.

@@ -270,6 +270,24 @@ class TestHolds(unittest.TestCase):
         self.assertEqual(longer.count_now(), 210)
         told_error(self, InvalidSize, "lots", longer.gained_now)
 
+    def test_just_200_lots(self):
+        # A line of 19 has 190 lots; five knots above it, each with a part more, have two more each.
+        cycle = tuple(tuple((x + y) % 6 for y in range(6)) for x in range(6))
+        turned = [0, 1, 2, 3, 5, 4]
+        other = tuple(tuple(turned[(turned[x] + turned[y]) % 6] for y in range(6)) for x in range(6))
+        rows = [((0, 1), sum(SIX, ()))] + [((22 + at, at), sum(SIX, ())) for at in range(2, 19)]
+        rows += [((22 + at, at), sum(cycle if at % 2 else other, ())) for at in range(19, 24)]
+        holds = Holds(tidy_form(6, [list(range(6))] * 24, rows))
+        self.assertEqual((holds.count_now(), holds.gained_now()), (200, ()))
+        # Free knots of 7 and 6 have 127 and 63 lots; six knots above them make it one more than 200.
+        beside = tuple(tuple([0, 2, 1, 3][FOUR[[0, 2, 1, 3][x]][[0, 2, 1, 3][y]]] for y in range(4)) for x in range(4))
+        rows = [((0, 1), sum(BITS, ()))] + [((16 + at, at), sum(BITS, ())) for at in range(2, 7)]
+        rows += [((7, 8), sum(FOUR, ()))] + [((15 + at, at), sum(FOUR, ())) for at in range(9, 13)]
+        rows += [((23, 28), sum(beside, ()))] + [((16 + at, at), sum(FOUR if at % 2 else beside, ())) for at in range(13, 18)]
+        holds = Holds(tidy_form(4, [list(range(4))] * 18, rows))
+        self.assertEqual(holds.count_now(), 201)
+        told_error(self, InvalidSize, "lots", holds.gained_now)
+
     def test_example(self):
         holds = Holds(board_form(twisted_board()))
         holds.hold(0, 2)

@@ -84,6 +84,17 @@ class TestRenamings(unittest.TestCase):
         for each in (((turned,) + rows[1:], row), (rows, row[::-1])):
             self.assertIs(is_renaming(one, other, each), each in found)
 
+    def test_unlike_knots(self):
+        names = [[0, 1, 2, 3]] * 3
+        one = tidy_form(4, names, [((0, 1), sum(FOUR, ())), ((3, 2), sum(BITS, ()))])
+        for rows in ([((0, 2), sum(FOUR, ())), ((3, 1), sum(BITS, ()))], [((0, 1), sum(BITS, ())), ((3, 2), sum(BITS, ()))],
+                     [((0, 1), sum(BITS, ())), ((3, 2), sum(FOUR, ()))]):
+            other = tidy_form(4, names, rows)
+            for pair in ((one, other), (other, one)):
+                self.assertEqual(how_many_renamings(*pair), 0)
+                self.assertIsNone(some_renaming(*pair))
+                self.assertIs(is_renaming(*pair, ((tuple(range(4)),) * 3, tuple(range(4)))), False)
+
     def test_lines_and_free_knots(self):
         rng = seeded(2)
         for rows, many_matches in ((SIX, 6), (FOUR, 2), (BITS, 6)):

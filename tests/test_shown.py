@@ -159,6 +159,16 @@ class TestFewestShown(unittest.TestCase):
         self.check(0, 0)
         self.check(("bare", (0, 1)), 1)
 
+    def test_children_that_have_all_parts_in_some_lot(self):
+        # Two lots part a free knot of three, and each part is in one of them.
+        def triple(first):
+            return "free", (first, first + 1, first + 2)
+        self.assertEqual(self.fewest(("line", (triple(0), triple(3), 6))), 4)
+        for kind in ("bare", "line", "free"):
+            self.check((kind, (triple(0), triple(3), 6)), 4)
+            self.check((kind, (triple(0), triple(3), triple(6))), 6)
+            self.check((kind, (triple(0), 3, 4)), 3)
+
     def test_16_parts(self):
         started = time.time()
         rng = seeded(6)

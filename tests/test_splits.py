@@ -186,6 +186,10 @@ class TestSplits(unittest.TestCase):
                 told_error(self, InvalidSetting, -1, sure_split, nothing, value)
         for setting, at in (((4, 0), 0), ((0, True), 1), ([0, None], 1)):
             told_error(self, InvalidSetting, at, sure_split, told, setting)
+            self.assertIs(split_holds(nothing, setting, 0, ("case", 0)), False)
+        for mark in (4, -1, True, None):
+            self.assertIs(split_holds(nothing, (1, 1), mark, ("case", 0)), False)
+        self.assertIs(split_holds(nothing, (1, 1), 0, ("case", 0)), True)
         told_error(self, Refused, -1, sure_split, nothing, (1, 1))
 
 
