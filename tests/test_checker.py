@@ -10,7 +10,6 @@ from oncetested.enough import fewer_changes, fewest_tries
 from oncetested.errors import BoardError, NoName
 from oncetested.facts import fact_paper
 from oncetested.fair import is_fair
-from oncetested.forms import board_form
 from oncetested.groups import Group, group_match
 from oncetested.nets import Net
 from oncetested.parted import gathered_net, net_no
@@ -130,17 +129,15 @@ class TestKinds(unittest.TestCase):
         self.assertIs(sheet_holds("unsettled", (SUM, (0, 1), []), ((0, 0), (0, 1), ())), True)
 
     def test_bools_are_no_tries(self):
-        change = unnoticed_change(ODD, (0, 1), ((0,),))
-        noticed = [t for t in ((1,), (2,), (3,)) if sheet_holds("unsettled", (ODD, (0, 1), ((0,),)), change[:2] + (t,))]
-        self.assertTrue(noticed)
-        bare = board_form(ODD)
-        self.assertEqual(len(bare), 3)
         two = Board(2, (2, 2, 2), (0, 0, 1, 0, 0, 1, 1, 1))
+        held = []
         for u in settings_of((2, 2)):
             for v in settings_of((2, 2)):
                 for w in ((0,), (1,)):
                     if sheet_holds("unsettled", (two, (0, 1), ()), (u, v, w)):
+                        held.append((u, v, w))
                         self.assertIs(sheet_holds("unsettled", (two, (0, 1), ()), (u, v, (bool(w[0]),))), False)
+        self.assertEqual({w for _, _, w in held}, {(0,), (1,)})
 
     def test_numbers_of_tries(self):
         tries, changes = fewest_tries(ODD, (0, 1)), fewer_changes(ODD, (0, 1))

@@ -161,14 +161,17 @@ class TestPapers(unittest.TestCase):
     def test_any_noes_that_show_the_hull(self):
         board, pairs = twisted_board(), ((0, 2),)
         paper = gain_paper(board, pairs, (1, 3))
-        other = ((1, 0), (3, 0), (2, 2), (0, 2))
-        self.assertIs(gain_holds(board, pairs, (1, 3), paper[:2] + ((other,) + paper[2][1:],) + paper[3:]), False)
-        swapped = (paper[2][0][0], paper[2][0][1], (1, 2), (1, 0))
-        looked = [(u, v, w, x) for u, v in [paper[2][0][:2]] for w in settings_of((4, 4)) for x in settings_of((4, 4))]
-        right = 0
-        for no in looked + [swapped]:
-            right += gain_holds(board, pairs, (1, 3), paper[:2] + ((no,) + paper[2][1:],) + paper[3:])
-        self.assertGreater(right, 1)
+        u, v, _, _ = paper[2][0]
+        held = []
+        for w in settings_of((4, 4)):
+            for x in settings_of((4, 4)):
+                value = paper[:2] + (((u, v, w, x),) + paper[2][1:],) + paper[3:]
+                if gain_holds(board, pairs, (1, 3), value):
+                    held.append((w, x))
+        # Any no does whose places differ in one part, as long as the next one is a no of the lot that has come.
+        self.assertIn(paper[2][0][2:], held)
+        self.assertGreater(len(held), 1)
+        self.assertEqual({sum(one != other for one, other in zip(w, x)) for w, x in held}, {1})
 
     def test_any_values(self):
         board = twisted_board()

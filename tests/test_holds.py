@@ -11,7 +11,7 @@ from oncetested.moves import tidy_form
 from oncetested.putting import held_parts
 from oncetested.shapes import is_shape
 from shaping import BITS, FOUR, SIX, inner_lots, kinds_of_boards, leaves, lot_of, random_shape
-from support import any_values, fair_board, has_lists, lots_of, rest, seeded, settings_of, table_board, told_error
+from support import any_values, fair_board, has_lists, lots_of, rest, seeded, table_board, told_error
 from test_moves import any_tree
 
 
